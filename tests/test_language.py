@@ -9,7 +9,7 @@ import unittest
 PACKAGE = pathlib.Path(__file__).resolve().parent.parent / "earworks"
 NODES = """Module Expr Constant ImportFrom alias FunctionDef ClassDef arguments arg Assign AugAssign If While For Return
 Break Continue Pass Raise Try ExceptHandler Call BinOp UnaryOp BoolOp Compare IfExp Attribute Subscript Slice ListComp
-comprehension JoinedStr FormattedValue Lambda List Tuple Dict Name keyword Load Store Add Sub Mult FloorDiv Mod Pow
+comprehension JoinedStr FormattedValue Lambda List Tuple Dict Set Name keyword Load Store AnnAssign Add Sub Mult FloorDiv Mod Pow
 BitAnd BitOr BitXor LShift RShift Invert UAdd USub Not And Or Eq NotEq Lt LtE Gt GtE In NotIn Is IsNot""".split()
 OWN_NAMES = """len range enumerate zip min max sum abs sorted reversed int str bool list tuple dict set frozenset
 isinstance ord repr any all divmod ValueError KeyError IndexError LookupError ZeroDivisionError StopIteration""".split()
@@ -29,7 +29,21 @@ def bound_names(tree):
     names = [node.name for node in nodes_of(tree, ast.FunctionDef, ast.ClassDef)]
     names += [node.arg for node in nodes_of(tree, ast.arg)]
     names += [node.id for node in nodes_of(tree, ast.Name) if isinstance(node.ctx, ast.Store)]
+    names += [node.name for node in nodes_of(tree, ast.ExceptHandler) if node.name]
     return names + [alias.name for alias in nodes_of(tree, ast.alias)]
+
+
+def drawn_from(trees, name):
+    """The files that a file draws from, in whatever many steps."""
+    found = []
+    unfinished = [name]
+    for file in unfinished:
+        for node in nodes_of(trees[file], ast.ImportFrom):
+            source = node.module.partition(".")[2] + ".py"
+            if source in trees and source not in found:
+                found.append(source)
+                unfinished.append(source)
+    return found
 
 
 class Language(unittest.TestCase):
@@ -64,6 +78,8 @@ class Language(unittest.TestCase):
         for name, tree in self.trees.items():
             for node in nodes_of(tree, ast.ImportFrom):
                 self.assertIn(node, tree.body, name)
+                if node.module == "__future__":
+                    continue
                 self.assertTrue(node.level == 0 and node.module.startswith("earworks."), name)
                 source = self.trees[node.module.partition(".")[2] + ".py"]
                 defined = [other.name for other in source.body if isinstance(other, (ast.FunctionDef, ast.ClassDef))]
@@ -79,6 +95,17 @@ class Language(unittest.TestCase):
                 self.assertFalse(word not in DUNDERS and hasattr(builtins, word), word)
             for node in nodes_of(tree, ast.Name):
                 self.assertIn(node.id, bound + OWN_NAMES, name)
+
+    def test_no_two_files_draw_from_one_another(self):
+        for name in self.trees:
+            self.assertNotIn(name, drawn_from(self.trees, name))
+
+    def test_no_local_is_called_like_a_class_or_an_import(self):
+        for name, tree in self.trees.items():
+            taken = [node.name for node in nodes_of(tree, ast.ClassDef, ast.alias)]
+            local = [node.arg for node in nodes_of(tree, ast.arg)]
+            local += [node.id for node in nodes_of(tree, ast.Name) if isinstance(node.ctx, ast.Store)]
+            self.assertEqual(sorted(set(taken) & set(local)), [], name)
 
     def test_methods(self):
         own = {}
@@ -98,8 +125,6 @@ class Language(unittest.TestCase):
                 self.assertEqual(node.decorator_list, [], node.name)
             for node in nodes_of(tree, ast.arguments):
                 self.assertFalse(node.vararg or node.kwarg or node.kwonlyargs or node.posonlyargs)
-            for node in nodes_of(tree, ast.arg):
-                self.assertIsNone(node.annotation)
             for node in nodes_of(tree, ast.ClassDef):
                 self.assertLessEqual(len(node.bases), 1, node.name)
 

@@ -1,25 +1,12 @@
 """For every web of up to 3 points and 4 ties, or 4 points and 5 ties: of the two things that a point speaks of there is one, and never both."""
 
 import unittest
-from itertools import chain, combinations, combinations_with_replacement, permutations, product
+from itertools import combinations, permutations, product
 
 from earworks.answers import Bar, Ears, Joint, Numbers, Part, Pocket, Turned, Wall, Ways
-from earworks.webs import Web
+from helper import point_sets, small_webs
 
 SIZES = ((2, 4), (3, 4), (4, 5))
-
-
-def small_webs(least):
-    for points, most in SIZES:
-        if points >= least:
-            pairs = list(combinations(range(points), 2))
-            for many in range(most + 1):
-                for ties in combinations_with_replacement(pairs, many):
-                    yield Web(points, list(ties))
-
-
-def point_sets(points):
-    return [list(some) for some in chain.from_iterable(combinations(points, k) for k in range(len(points) + 1))]
 
 
 def walks(web, begin, gone):
@@ -48,12 +35,12 @@ def ears_of(web, so_far=()):
 
 
 def some_bar(web):
-    return any(Bar(points).shows(web) for points in point_sets(range(web.points)))
+    return any(Bar(points).shows(web) for points in point_sets(web))
 
 
 def some_joint(web):
     return any(Joint(point, others).shows(web)
-               for point in range(web.points) for others in point_sets(range(web.points)))
+               for point in range(web.points) for others in point_sets(web))
 
 
 def some_turned(web):
@@ -66,7 +53,7 @@ def some_numbers(web, one, other):
 
 def some_pocket(web, one, other):
     return any(Pocket(points, door).shows(web, one, other)
-               for points in point_sets(range(web.points)) for door in range(web.points))
+               for points in point_sets(web) for door in range(web.points))
 
 
 def some_ways(web, one, other, many, truth):
@@ -75,11 +62,11 @@ def some_ways(web, one, other, many, truth):
 
 
 def some_wall(web, one, other, many):
-    return any(Wall(points).shows(web, one, other, many) for points in point_sets(range(web.points)))
+    return any(Wall(points).shows(web, one, other, many) for points in point_sets(web))
 
 
 def some_part(web, one, other, many):
-    return any(Part(points).shows(web, one, other, many) for points in point_sets(range(web.points)))
+    return any(Part(points).shows(web, one, other, many) for points in point_sets(web))
 
 
 class OneOfTwo(unittest.TestCase):
@@ -88,24 +75,24 @@ class OneOfTwo(unittest.TestCase):
             self.fail(f"both {first}: {web.points} {web.ties()} {asked}")
 
     def test_ears_or_a_bar(self):
-        for web in small_webs(2):
+        for web in small_webs(2, SIZES):
             self.just_one(web, any(Ears(ears).shows(web) for ears in ears_of(web)), some_bar(web))
 
     def test_all_ways_or_a_joint(self):
-        for web in small_webs(3):
+        for web in small_webs(3, SIZES):
             self.just_one(web, any(Ears(ears).all_ways(web) for ears in ears_of(web)), some_joint(web))
 
     def test_turned_or_a_bar(self):
-        for web in small_webs(2):
+        for web in small_webs(2, SIZES):
             self.just_one(web, some_turned(web), some_bar(web))
 
     def test_numbers_or_a_pocket(self):
-        for web in small_webs(2):
+        for web in small_webs(2, SIZES):
             for one, other in permutations(range(web.points), 2):
                 self.just_one(web, some_numbers(web, one, other), some_pocket(web, one, other), one, other)
 
     def test_ways_or_a_wall(self):
-        for web in small_webs(2):
+        for web in small_webs(2, SIZES):
             for one, other in permutations(range(web.points), 2):
                 if (min(one, other), max(one, other)) not in web.ties():
                     for many in (1, 2, 3):
@@ -113,7 +100,7 @@ class OneOfTwo(unittest.TestCase):
                                       some_wall(web, one, other, many), one, other, many)
 
     def test_ways_with_ties_apart_or_a_part(self):
-        for web in small_webs(2):
+        for web in small_webs(2, SIZES):
             for one, other in permutations(range(web.points), 2):
                 for many in (1, 2, 3):
                     self.just_one(web, some_ways(web, one, other, many, Ways.ties_apart),

@@ -2,22 +2,7 @@ import unittest
 
 from earworks.errors import BadWeb
 from earworks.webs import Web
-
-
-class Unshowable:
-    """Something of no known kind that lets nothing be done with it."""
-
-    def refuse(self, *rest):
-        raise RuntimeError("not to be touched")
-
-    __eq__ = __ne__ = __lt__ = __le__ = __gt__ = __ge__ = refuse
-    __len__ = __iter__ = __getitem__ = __contains__ = refuse
-    __bool__ = __int__ = __index__ = __repr__ = __str__ = __hash__ = refuse
-
-
-OTHER_KINDS = (None, True, False, "", "2", "12", b"12", 1.0, 2.5, float("nan"), float("inf"), 2j, (), (1,), [], [1],
-               [(0, 1)], {}, {0: 1}, set(), frozenset([1]), range(2), iter([]), object(), int, len, Web(2, []),
-               Unshowable())
+from helper import OTHER_KINDS, Unshowable
 
 
 class GoodWebs(unittest.TestCase):
